@@ -1,0 +1,165 @@
+package live_test
+
+import (
+	"math"
+	"slices"
+
+	"ravelin/api"
+)
+
+func konst(d int, k uint32) api.Ir           { return api.Ir{Op: api.MirConst, D: d, K: k} }
+func load(d int, k uint32) api.Ir            { return api.Ir{Op: api.MirLoad, D: d, K: k} }
+func move(d, a int) api.Ir                   { return api.Ir{Op: api.MirMove, D: d, A: a} }
+func three(op api.MirOp, d, a, b int) api.Ir { return api.Ir{Op: op, D: d, A: a, B: b} }
+func answer(a int) api.Ir                    { return api.Ir{Op: api.MirReturn, A: a} }
+func jump(t int) api.Ir                      { return api.Ir{Op: api.MirJump, T: t} }
+func branch(op api.MirOp, a, b, t, f int) api.Ir {
+	return api.Ir{Op: op, A: a, B: b, T: t, F: f}
+}
+
+// example is the chapter's.
+func example() api.Mir {
+	return api.Mir{Regs: 2, L: []api.Ir{konst(0, 7), load(1, 0), three(api.MirAdd, 0, 0, 1), answer(0)}}
+}
+
+// random are numbers that follow no shape, the same ones at each run.
+type random uint64
+
+func (r *random) next() uint32 {
+	*r = *r*6364136223846793005 + 1442695040888963407
+	return uint32(*r>>32 ^ *r>>59)
+}
+
+// below is a number from 0 to n - 1.
+func (r *random) below(n int) int { return int(r.next()>>1) % n }
+
+// word is one of a few, or any.
+func (r *random) word() uint32 {
+	if r.below(4) == 0 {
+		return r.next()
+	}
+	return uint32(r.below(4))
+}
+
+// words are so many.
+func (r *random) words(n int) []uint32 {
+	l := make([]uint32, n)
+	for i := range l {
+		l[i] = r.word()
+	}
+	return l
+}
+
+// data are 64 bytes, put together of such words.
+func (r *random) data() []byte {
+	var b []byte
+	for _, w := range r.words(16) {
+		b = append(b, byte(w), byte(w>>8), byte(w>>16), byte(w>>24))
+	}
+	return b
+}
+
+// any is a number of all shapes: it may be a register's, or a place.
+func (r *random) any() int {
+	l := []int{0, 1, 2, 3, 5, 63, 64, 65535, 1 << 32, -1, math.MinInt, math.MaxInt}
+	return l[r.below(len(l))]
+}
+
+// shape is how a Mir is: how far its jumps go, how many of twelve instructions are jumps, and ends.
+type shape struct{ far, jumps, ends int }
+
+// op is an operation.
+func (r *random) op(s shape) api.MirOp {
+	switch x := r.below(12); {
+	case x < s.jumps:
+		return api.MirOp(14 + r.below(5))
+	case x < s.jumps+s.ends:
+		return 19
+	}
+	return api.MirOp(1 + r.below(13))
+}
+
+// right is an instruction that may stand there, in a Mir of so many. In fields that its row does not name there may be anything.
+func (r *random) right(op api.MirOp, regs, at, n, far int) api.Ir {
+	x := api.Ir{Op: op, D: r.any(), A: r.any(), B: r.any(), K: r.word(), T: r.any(), F: r.any()}
+	set := func(field string, to *int, from, below int) {
+		if names(op, field) {
+			*to = from + r.below(below-from)
+		}
+	}
+	set("D", &x.D, 0, regs)
+	set("A", &x.A, 0, regs)
+	set("B", &x.B, 0, regs)
+	set("T", &x.T, at+1, min(n, at+1+far))
+	set("F", &x.F, at+1, min(n, at+1+far))
+	if names(op, "W") {
+		x.K = 4 * uint32(r.below(16))
+	}
+	return x
+}
+
+// mir is one that is right.
+func (r *random) mir(regs, n int, s shape) api.Mir {
+	p := api.Mir{Regs: regs, L: make([]api.Ir, n, n+r.below(3))}
+	for at := range p.L {
+		op := r.op(s)
+		if at == n-1 {
+			op = 19
+		}
+		p.L[at] = r.right(op, regs, at, n, s.far)
+	}
+	return p
+}
+
+// lettersAt are the instructions that may stand at a place, ahead of so many others: one for each way to go on, use and set.
+func lettersAt(at, behind int) []api.Ir {
+	l := []api.Ir{answer(0), answer(1)}
+	if behind == 0 {
+		return l
+	}
+	l = append(l, konst(0, 1), load(1, 0), move(0, 1), move(1, 1), three(api.MirSub, 1, 0, 1))
+	for a := range behind {
+		l = append(l, jump(at+1+a))
+		for b := range behind {
+			l = append(l, branch(api.MirIfGt, 0, 1, at+1+a, at+1+b))
+		}
+	}
+	return l
+}
+
+// allMirs goes through the right ones of n instructions of that kind.
+func allMirs(n int, look func(p api.Mir)) {
+	p := api.Mir{Regs: 3, L: make([]api.Ir, n)}
+	var lay func(at int)
+	lay = func(at int) {
+		if at == n {
+			look(p)
+			return
+		}
+		for _, x := range lettersAt(at, n-1-at) {
+			p.L[at] = x
+			lay(at + 1)
+		}
+	}
+	lay(0)
+}
+
+// entered is a Mir that goes on with another one from a place on, its registers having such numbers.
+func entered(p api.Mir, at int, numbers []uint32) api.Mir {
+	var l []api.Ir
+	for reg, k := range numbers {
+		l = append(l, konst(reg, k))
+	}
+	ahead := len(l) + 1
+	l = append(l, jump(ahead+at))
+	for _, x := range p.L {
+		if names(x.Op, "T") {
+			x.T += ahead
+		}
+		if names(x.Op, "F") {
+			x.F += ahead
+		}
+		l = append(l, x)
+	}
+	return api.Mir{Regs: p.Regs, L: slices.Clip(l)}
+}
